@@ -1,0 +1,1 @@
+"""Swaphouse: exchanges of things of one's own, with papers."""
