@@ -77,7 +77,7 @@ def is_none_firm(steps, thing):
     if not is_row_of(thing, 2):
         return False
     segments, few = thing
-    if not is_list(segments) or len(segments) == 0 or not is_ascending_row(few, rows):
+    if not is_list(segments) or not is_ascending_row(few, rows):
         return False
     left = {person: True for person in rows}
     points = {}

@@ -86,10 +86,10 @@ def first_ring(ways, start, plain, bettered):
 
 def steps_from(thing, found, plain, bettered):
     """How many steps lead on to the goal, None if none do; one who found a better thing needs no other one."""
-    far = bettered.get(thing)
-    if found and thing in plain and (far is None or plain[thing] < far):
-        return plain[thing]
-    return far
+    if found and thing in plain:
+        # Whoever comes to the goal can go on round it, so it comes there with a better thing, too.
+        return min(plain[thing], bettered[thing])
+    return bettered.get(thing)
 
 
 def bettering(market, allotment):

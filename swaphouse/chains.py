@@ -1,6 +1,6 @@
 """Chains: how one's ring and another's thing hang together."""
 
-from swaphouse.given import is_list, is_one_of, is_row_of
+from swaphouse.given import is_list, is_row_of
 from swaphouse.likes import better_things, is_better
 from swaphouse.markets import rows_of
 from swaphouse.pointing import all_rings, dealt, rings_by_people, rounds_by
@@ -35,10 +35,11 @@ def is_chain_to(market, person, other, thing):
     ring_by = rings_by_people(rings)
     ring = ring_by[other]
     for pair in thing:
-        if not is_row_of(pair, 2) or not is_one_of(pair[0], rows) or not is_one_of(pair[1], rows):
+        if not is_row_of(pair, 2) or pair[0] not in ring:
             return False
         one, two = pair
-        if one not in ring or not is_better(rows[one], one, two, gets[one]):
+        # What one likes better is named in its row, so two is a person here.
+        if not is_better(rows[one], one, two, gets[one]):
             return False
         ring = ring_by[two]
     return person in ring

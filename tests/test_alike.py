@@ -89,7 +89,9 @@ class TestSteps(unittest.TestCase):
 
     def test_copies(self):
         wishes = {"a": [["b"], ["a"]]}
-        steps = Steps(["a", "b"], wishes)
+        people = ["a", "b"]
+        steps = Steps(people, wishes)
+        people.append("c")
         wishes["a"][0].append("a")
         steps.people().pop()
         steps.wishes()["a"].pop()
@@ -141,6 +143,10 @@ class TestAlike(unittest.TestCase):
             for _ in range(60):
                 self.check(Steps(names, {name: chance.choice(rows[name]) for name in names}))
 
+    def test_segments_that_stand_among_one_another(self):
+        for one, other in (("ac", "bd"), ("ad", "bc")):
+            self.check(Steps(list("dbca"), {name: [sorted(lot)] for lot in (one, other) for name in lot}))
+
     def test_judged(self):
         chance = random.Random(9)
         for names in (["a", "b"], ["a", "b", "c"]):
@@ -160,6 +166,10 @@ class TestAlike(unittest.TestCase):
         self.assertFalse(is_none_firm(TWO_FOR_ONE, ([["a", "b", "c"]], ["b", "a"])))
         self.assertFalse(is_none_firm(TWO_FOR_ONE, ([["a", "b", "c"]], ["a", "b"], [])))
         self.assertFalse(is_none_firm(TWO_FOR_ONE, ([["a", "b", "c"], ["a"]], ["a", "b"])))
+        for segments in ({}, None, "abc", 3, [], [[]], [["a", "b", "c"], []], [None], ["abc"], [["a", "b"]], [["a", None]]):
+            self.assertIs(False, is_none_firm(TWO_FOR_ONE, (segments, ["a", "b"])))
+        for few in ([], None, {}, "ab", [["a", "b"]], ["a", "zed"], ["a", "a", "b"]):
+            self.assertIs(False, is_none_firm(TWO_FOR_ONE, ([["a", "b", "c"]], few)))
         self.assertTrue(is_none_firm(steps=TWO_FOR_ONE, thing=[(("a", "b", "c"),), ("a", "b")]))
 
     def test_examples(self):

@@ -121,6 +121,17 @@ class TestBettering(unittest.TestCase):
             self.assertFalse(are_prices(AB, firm, thing))
         self.assertTrue(are_prices(AB, firm, {"b": 5, "a": 5}))
 
+    def test_numbers_that_are_passed_stay(self):
+        costs = {"b": 0, "a": 0}
+        self.assertFalse(are_prices(Market(["a", "b"], {"a": ["b"]}), {"a": "a", "b": "b"}, costs))
+        self.assertEqual({"b": 0, "a": 0}, costs)
+
+    def test_rings_in_which_nobody_fares_better(self):
+        steps = Steps(["a", "b", "c"], {"a": [["a", "b", "c"]], "b": [["a", "b"]], "c": [["a"], ["c"]]})
+        alone = {"a": "a", "b": "b", "c": "c"}
+        self.assertEqual(["a", "c"], bettering(steps, alone))
+        self.assertFalse(is_bettering(steps, alone, ["a", "b"]))
+
     def test_bad_market(self):
         for thing in any_objects() + [Notice("rings", AB, [])]:
             if not isinstance(thing, (Market, Steps)):

@@ -128,6 +128,20 @@ class TestNoticeTexts(unittest.TestCase):
         for text, fault in cases:
             self.assertEqual(fault, notice_fault(text), text)
 
+    def test_lines_in_another_place(self):
+        two = "person ann\nperson bo\n"
+        cases = [("rule pairs\n" + two + "needs bo, ann\nperson cy\n", (5, 1)), ("rule rings\nneeds ann\n", (2, 1)),
+                 ("rule pairs\n" + two + "needs bo, ann\nann wants bo\n", (5, 1)), ("rule pairs\nneeds \n", (2, 1)),
+                 ("rule pairs\n" + two + "needs bo, ann\nneeds bo, ann\n", (5, 1)), ("rule pairs\nrule pairs\n", (2, 1)),
+                 ("rule rings\n" + two + "needs bo, ann\n", (4, 1)), ("rule rings\n" + two + "ann\n", (4, 4)),
+                 ("rule shares\n" + two + "bo wants ann\nperson cy\n", (5, 1)), ("person ann\n", (1, 1)),
+                 ("rule shares\n" + two + "bo wants ann\nann wants bo\n", (5, 1)), ("rule shares\nann wants bo\n", (2, 1)),
+                 ("rule shares\n" + two + "bo wants ann\nbo wants ann\n", (5, 1)),
+                 ("rule shares\n" + two + "cy wants ann\n", (4, 1)), ("rule rings\n" + two + "ann wants cy\n", (4, 11))]
+        for text, fault in cases:
+            self.assertEqual(fault, notice_fault(text), text)
+            self.check(text)
+
     def test_faults_of_rows(self):
         ahead = "rule pairs\nperson bo\nperson bob\nperson cy\n"
         cases = [("b", (5, 2)), ("bo ", (5, 4)), ("boc", (5, 3)), ("bo wants bo\n", (5, 12)), ("bo wants bob", (5, 13)),
@@ -227,7 +241,7 @@ class TestNoticeTexts(unittest.TestCase):
     def test_told_anew(self):
         read_notice(TEXT_P).needs().pop()
         self.assertEqual(notice_p(), read_notice(TEXT_P))
-        self.assertEqual(notice_goes_on("rule p"), notice_goes_on("rule p"))
+        self.assertEqual(notice_goes_on("rule p"), notice_goes_on(text="rule p"))
 
 
 if __name__ == "__main__":

@@ -168,6 +168,18 @@ class TestOnlyRule(unittest.TestCase):
             self.assertIs(False, is_rule_fault(keep, ["a", "b"], thing))
         self.assertIs(False, is_rule_fault(keep, ["a"], ("form", swap)))
 
+    def test_where_no_allotment_is_returned(self):
+        wrong = Market(["a", "b"], {"a": ["b"]})
+        swap = Market(["a", "b"], {"a": ["b"], "b": ["a"]})
+        rule = only_at(wrong, {"a": "b", "b": "b"})
+        deal = {"a": "b", "b": "a"}
+        self.assertTrue(is_rule_fault(rule, ["a", "b"], ("form", wrong)))
+        for thing in (("own", wrong, "b"), ("better", wrong, deal), ("lie", wrong, "a", []), ("lie", swap, "b", [])):
+            self.assertIs(False, is_rule_fault(rule, ["a", "b"], thing))
+        lie = [fault for fault in faults_by_trial(best_for_first, ["a", "b", "c"]) if fault[0] == "lie"][0]
+        self.assertTrue(is_rule_fault(best_for_first, ["a", "b", "c"], lie))
+        self.assertIs(False, is_rule_fault(best_for_first, ["a", "b", "c"], ("other",) + lie[1:]))
+
     def test_what_rules_tell_can_be_any_object(self):
         for told in any_objects():
             if told != {"a": "a"}:

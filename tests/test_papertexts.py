@@ -99,6 +99,7 @@ class TestPaperTexts(unittest.TestCase):
                  ("blocks", [("a", [], [["b"], ["c", "b"]])]), ("blocks", [("a", [], []), ("a", [], [])]),
                  ("blocks", [("out", [], [])]), ("blocks", [(["a"], [], [])]), ("blocks", [("a", None, [])]),
                  ("blocks", [("a", [], None)]), ("blocks", ["abc"]), ("blocks", [("a", [1], [])]), ("lots", []),
+                 ("blocks", {("a", (), ()): 0}), ("blocks", 5), ("blocks", None), ("lots", [("a", [], [])]), ("rings", 5),
                  ("blocks", [("a", [], "b")]), ("blocks", [("a", [], ["b"])]), ("blocks", [None]), ("rings", [None])]
         right = [("rings", []), ["rings", [["a"]]], ("blocks", [("a", [], [])])]
         for thing in wrong + [thing for thing in any_objects() if thing not in right]:
@@ -107,7 +108,8 @@ class TestPaperTexts(unittest.TestCase):
             self.assertIs(thing, caught.exception.thing)
 
     def test_faults(self):
-        cases = [("\n", (1, 1)), ("lot a", (1, 1)), ("ring", (1, 5)), ("ring \n", (1, 6)), ("ring a, a\n", (1, 10)),
+        cases = [("ring a\nout b\n", (2, 1)), ("ring a\nlot b\n", (2, 1)), ("out a\nring b\n", (2, 1)), ("lot a\n", (1, 1)),
+                 ("\n", (1, 1)), ("lot a", (1, 1)), ("ring", (1, 5)), ("ring \n", (1, 6)), ("ring a, a\n", (1, 10)),
                  ("ring a\nout", (2, 1)), ("ring a\nring a\n", (2, 7)), ("out a\nring", (2, 1)), ("out a\nout a\n", (2, 6)),
                  ("out a without a\nlot a\n", (2, 6)), ("out a\nlot b\nlot b\n", (3, 6)), ("out a\nlot b, b\n", (2, 9)),
                  ("out a  ", (1, 7)), ("out a wit", (1, 10)), ("out a without\n", (1, 14)), ("out a without b,c", (1, 17)),

@@ -99,6 +99,8 @@ class TestResultTexts(unittest.TestCase):
                  ("gets", {"a": ["b"]}), ("gets", {1: "a"}), ("gets", {"rule": "a"}), ("gets", {"a": "A"}), ("gets",),
                  ("gets", {}, 0), ("with", {}), ("with", [("b", "a")]), ("with", [("a", "a")]), ("with", [("a", "b", "c")]),
                  ("with", [("c", "d"), ("a", "b")]), ("with", [("a", "b"), ("b", "c")]), ("with", [("a", "c"), ("b", "c")]),
+                 ("with", {("a", "b"): 0}), ("with", None), ("gets", None), ("give", [("a", "b")]), ("with", [("A", "b")]),
+                 ("with", [(["a"], "b")]), ("with", [("out", "w")]), ("with", [(0, 1)]), ("with", [("a", "B")]),
                  ("with", ["ab"]), ("with", [("a", [])]), ("with", [("a", "with")]), ("with", [("a", "b"), None]),
                  ("with", [("a", "b"), ("a", "b")]), ("give", {}), (["gets"], {}), "gets", {"gets": {}}]
         right = [("gets", {}), ["gets", {"a": "b"}], ("with", [("a", "b")])]
