@@ -1,9 +1,11 @@
 """What several tests use: the document's examples, any objects, and small markets, judged by plain trial."""
 
+import copy
+import inspect
 from itertools import chain, combinations, permutations, product
 
 from swaphouse.alike import Steps
-from swaphouse.errors import BadRow, BadText, SwapError
+from swaphouse.errors import BadMarket, BadRow, BadText, NoPerson, SwapError
 from swaphouse.markets import Market
 from swaphouse.notices import Notice
 
@@ -153,3 +155,78 @@ def with_row(market, told):
 def crowd(many):
     """So many names, ascending."""
     return ["p" + str(at).zfill(3) for at in range(many)]
+
+
+def refused(case, error, asked, *told, **named):
+    """The error that is raised when something is asked."""
+    with case.assertRaises(error) as caught:
+        asked(*told, **named)
+    case.assertIs(error, type(caught.exception))
+    return caught.exception
+
+
+def check_things(case, error, asked, is_good):
+    """Whatever object is not good is refused with the very object."""
+    for thing in any_objects():
+        if not is_good(thing):
+            case.assertIs(thing, refused(case, error, asked, thing).thing)
+
+
+def check_markets(case, *functions):
+    """BadMarket comes ahead of all other errors."""
+    for function in functions:
+        others = [None] * (len(inspect.signature(function).parameters) - 1)
+        check_things(case, BadMarket, lambda thing: function(thing, *others), lambda thing: isinstance(thing, Market))
+
+
+def check_persons(case, function, *ahead):
+    """Each parameter behind those ahead, named person, one or other, is refused by NoPerson, ahead of those behind."""
+    names = list(inspect.signature(function).parameters)[len(ahead):]
+    while names and names[0] in ("person", "one", "other"):
+        behind = [None] * (len(names) - 1)
+        people = ahead[0].people()
+        check_things(case, NoPerson, lambda thing: function(*ahead, thing, *behind),
+                     lambda thing: isinstance(thing, str) and thing in people)
+        ahead += (people[len(ahead) % len(people)],)
+        names = names[1:]
+
+
+def check_indexes(case, error, asked, cases):
+    """What is no list is refused with index 0, each list of the cases with its index."""
+    for thing in any_objects():
+        if not isinstance(thing, (list, tuple)):
+            case.assertEqual(0, refused(case, error, asked, thing).index)
+    for thing, index in cases:
+        case.assertEqual(index, refused(case, error, asked, thing).index)
+
+
+def check_anew(case, function, *told):
+    """What is told is new each time, nothing stands in two places of it, and what is passed is not changed."""
+    kept = copy.deepcopy(told)
+    first = function(*told)
+    found = mutable_in(first)
+    case.assertEqual(len(found), len({id(one) for one in found}))
+    again = function(*told)
+    case.assertFalse({id(one) for one in found} & {id(one) for one in mutable_in(again)})
+    for one in found:
+        one.clear()
+    case.assertEqual(again, function(*told))
+    case.assertEqual(kept, told)
+
+
+def mutable_in(thing):
+    """All lists and dicts in what is told, one behind another."""
+    if isinstance(thing, dict):
+        return [thing] + [one for part in thing.values() for one in mutable_in(part)]
+    if isinstance(thing, (list, tuple)):
+        return [thing] * isinstance(thing, list) + [one for part in thing for one in mutable_in(part)]
+    return []
+
+
+def turned_dict(thing):
+    """The same dict in another order."""
+    return {key: thing[key] for key in sorted(thing, reverse=True)}
+
+
+def ascends(thing):
+    return list(thing) == sorted(thing)

@@ -1,0 +1,23 @@
+"""All firm pairings, listed."""
+
+from swaphouse.errors import BadNumber, NotFirm
+from swaphouse.firmlists import all_firm, firm_rows
+from swaphouse.given import is_number
+
+
+def firm_pairings(market):
+    return all_firm(firm_rows(market))
+
+
+def firm_at(market, number):
+    pairings = firm_pairings(market)
+    if not is_number(number) or number >= len(pairings):
+        raise BadNumber(number)
+    return pairings[number]
+
+
+def firm_number(market, pairing):
+    pairings = firm_pairings(market)
+    if not isinstance(pairing, dict) or pairing not in pairings:
+        raise NotFirm(pairing)
+    return pairings.index(pairing)
