@@ -18,6 +18,6 @@ def firm_at(market, number):
 
 def firm_number(market, pairing):
     pairings = firm_pairings(market)
-    if not isinstance(pairing, dict) or pairing not in pairings:
+    if pairing not in pairings:
         raise NotFirm(pairing)
     return pairings.index(pairing)

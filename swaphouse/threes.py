@@ -24,7 +24,7 @@ def rings_through(rows, left, person):
         if other in left and person in rows[other]:
             rings.append(from_least([person, other]))
         if other in left:
-            thirds = [third for third in rows[other] if third in left and third != person and person in rows[third]]
+            thirds = [third for third in rows[other] if third in left and person in rows[third]]
             rings.extend([from_least([person, other, third]) for third in thirds])
     return sorted(rings)
 

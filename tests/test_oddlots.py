@@ -81,8 +81,8 @@ class TestOddLots(unittest.TestCase):
                  ((["bo"], [["eve"], ["cy"]]), ("tie", "cy", "ann")), (([], [["eve"], ["dan"]]), ("tie", "eve", "bo")),
                  (([], [["cy", "bo", "ann"]]), ("tie", "bo", "dan")), (([], [["bo"]]), ("tie", "bo", "ann")),
                  ((["ann"], [["eve", "bo", "dan"]]), ("tie", "bo", "cy")), ((["zed"], []), ("form",)), (([], [[0]]), ("form",)),
-                 (([], [["dan"]], []), ("form",)), ((["bo"],), ("form",)), ((["bo"], ["dan"]), ("form",)),
-                 ((["bo"], {"dan": ["eve"]}), ("form",)), (({"bo": 1}, [["dan"]]), ("form",)), (("bo", [["dan"]]), ("form",)),
+                 (([], [["dan"]], []), ("form",)), ((["bo"],), ("form",)), ((["bo"], ["dan"]), ("form",)), (([], None), ("form",)), (([], ""), ("form",)),
+                 ((["bo"], {"dan": ["eve"]}), ("form",)), ((["bo"], {}), ("form",)), (({"bo": 1}, [["dan"]]), ("form",)), (("bo", [["dan"]]), ("form",)),
                  ((["bo", "bo"], [["dan", "eve"], None]), ("form",)), ((["bo"], [[["dan"]]]), ("form",))]
         for thing, fault in cases:
             self.assertEqual(fault, odd_lots_fault(market, thing))

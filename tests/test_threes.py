@@ -145,9 +145,9 @@ class TestThrees(unittest.TestCase):
 
     def test_any_object(self):
         wrong = [("cases", "a", []), ("cases", "a", [PAPER]), ("cases", "a", None), ("cases", ["a"], [PAPER[2][0]]), PAPER[:2],
-                 ("heights", {}), ("heights", None), (["heights"], {}), ("heights", {"a": 0, "b": 1, "c": 2, "d": 3}),
+                 ("heights", {}), ("heights", None), (["heights"], {}), ("height", {"a": 1, "b": 1, "c": 1, "d": 1}), ("heights", {"a": 0, "b": 1, "c": 2, "d": 3}),
                  ("heights", {"a": False, "b": 0, "c": 0, "d": 0}), {0: "cases", 1: "a", 2: PAPER[2]}, PAPER + (0,),
-                 ("cases", "a", {0: PAPER[2][0]}), ("cases", "a", [("heights", {"b": 0, "c": 1, "d": "2"})])]
+                 ("cases", "a", {0: PAPER[2][0]}), ("case",) + PAPER[1:], (["cases"],) + PAPER[1:], ("cases", "a", [("heights", {"b": 0, "c": 1, "d": "2"})])]
         for thing in any_objects() + wrong:
             self.assertIs(False, is_threes_paper(FOUR, 1, thing))
 
