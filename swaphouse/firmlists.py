@@ -3,7 +3,7 @@
 Rows here are a dict from all people, ascending, to those with whom they may share, best first, asked through.
 """
 
-from swaphouse.errors import NoFirm
+from swaphouse.errors import NoFirm, NotFirm
 from swaphouse.sharing import sharing_rows
 from swaphouse.tables import ask_through, copy_of, cut_at, cut_behind, goes_on, odd_rings_of, settled
 
@@ -49,3 +49,15 @@ def all_firm(rows):
                     told.extend(all_firm(within))
             return told
     return [{person: row[0] if row else None for person, row in rows.items()}]
+
+
+def rows_with_firm(market):
+    """The pair of whom people may share with and of all firm pairings, behind a check that there is one."""
+    rows = firm_rows(market)
+    return (sharing_rows(market), all_firm(rows))
+
+
+def check_firm(pairings, pairing):
+    """Check that any object is one of all firm pairings."""
+    if pairing not in pairings:
+        raise NotFirm(pairing)

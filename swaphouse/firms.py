@@ -1,7 +1,7 @@
 """All firm pairings, listed."""
 
-from swaphouse.errors import BadNumber, NotFirm
-from swaphouse.firmlists import all_firm, firm_rows
+from swaphouse.errors import BadNumber
+from swaphouse.firmlists import all_firm, check_firm, firm_rows
 from swaphouse.given import is_number
 
 
@@ -18,6 +18,5 @@ def firm_at(market, number):
 
 def firm_number(market, pairing):
     pairings = firm_pairings(market)
-    if pairing not in pairings:
-        raise NotFirm(pairing)
+    check_firm(pairings, pairing)
     return pairings.index(pairing)

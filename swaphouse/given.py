@@ -1,5 +1,7 @@
 """What is asked of any object that is passed."""
 
+from swaphouse.errors import BadNumber
+
 
 def is_list(thing):
     return isinstance(thing, (list, tuple))
@@ -39,6 +41,13 @@ def is_row(thing, person, names):
     return are_unlike(thing, names) and person not in thing
 
 
+def row_fault(thing, person, names):
+    """The index of the first thing that is none of the other people, or stood before; 0 for no list, or None."""
+    if not is_list(thing):
+        return 0
+    return first_wrong(thing, lambda name: name in names and name != person)
+
+
 def has_just(thing, names):
     """Whether any object is a dict the keys of which are just names."""
     return isinstance(thing, dict) and len(thing) == len(names) and all([name in thing for name in names])
@@ -47,3 +56,8 @@ def has_just(thing, names):
 def is_ascending(names):
     """Whether strings ascend, each one unlike the one ahead."""
     return all([one < other for one, other in zip(names, names[1:])])
+
+
+def check_number(number):
+    if not is_number(number):
+        raise BadNumber(number)

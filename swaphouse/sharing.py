@@ -38,11 +38,23 @@ def own_if_alone(pairing):
     return {person: person if mate is None else mate for person, mate in pairing.items()}
 
 
+def would_leave(rows, has, one, other):
+    """Whether two people may share and each like the other better than whom it has."""
+    if other not in rows[one]:
+        return False
+    return is_better(rows[one], one, other, has[one]) and is_better(rows[other], other, one, has[other])
+
+
 def pairs_leaving(rows, has):
     """The ascending list of the pairs who may share and like one another better than whom each has."""
     told = []
     for one, row in rows.items():
         for other in sorted(row):
-            if one < other and is_better(row, one, other, has[one]) and is_better(rows[other], other, one, has[other]):
+            if one < other and would_leave(rows, has, one, other):
                 told.append((one, other))
     return told
+
+
+def rows_without(rows, person):
+    """The rows when somebody is not there."""
+    return {one: [other for other in row if other != person] for one, row in rows.items() if one != person}

@@ -80,3 +80,12 @@ def goes_on(rows):
 def odd_rings_of(points):
     """The ascending list of the odd rings of a party."""
     return [ring for ring in rings_of(points) if len(ring) > 2]
+
+
+def odd_ones_of(points):
+    """The ascending list of the odd rings of a party, and of the rings of one of those who are alone."""
+    return [ring for ring in rings_of(points) if len(ring) != 2]
+
+
+def odd_ones(rows):
+    return odd_ones_of(goes_on(settled(rows)))

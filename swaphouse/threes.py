@@ -1,15 +1,9 @@
 """Rings of three people at most: most served by them, and papers that no more can be."""
 
-from swaphouse.errors import BadNumber
-from swaphouse.given import has_just, is_number, is_one_of, is_row_of
+from swaphouse.given import check_number, has_just, is_number, is_one_of, is_row_of
 from swaphouse.laying import Laying, all_pay
 from swaphouse.markets import rows_of
 from swaphouse.pointing import dealt, from_least
-
-
-def check_number(number):
-    if not is_number(number):
-        raise BadNumber(number)
 
 
 def rows_among(rows, left):

@@ -1,11 +1,15 @@
 """What the tests of shares use: markets, and plain trial of all pairings and parties."""
 
+import inspect
+import random
 from itertools import combinations, permutations
 
-from examples import small_markets
+from examples import any_objects, check_markets, notice_o, refused, small_markets
 from pairtrials import pairings_by_trial
 
+from swaphouse.errors import NoFirm, NotFirm
 from swaphouse.markets import Market
+from swaphouse.parties import odd_rings
 
 
 def all_small():
@@ -117,3 +121,83 @@ def fault_by_trial(market, thing):
 
 def parties_by_trial(market):
     return [thing for thing in orders_of(market) if fault_by_trial(market, thing) is None]
+
+
+def with_several(chance, many, least=2):
+    """So many markets of six people with at least so many firm pairings."""
+    found = []
+    while len(found) < many:
+        found += [market for market in some_markets(chance, 50, [6]) if len(firm_by_trial(market)) >= least]
+    return found[:many]
+
+
+def firm_markets(chance, many, several):
+    """Small markets that have a firm pairing: all of up to three people, some of four to six, some with two and more."""
+    found = all_small() + some_markets(chance, many, [4, 5, 6]) + [two_sides(2), two_sides(3), blocks(1), blocks(2)]
+    return [market for market in found + with_several(chance, several) if firm_by_trial(market)]
+
+
+def lies_between(rows, third, one, other):
+    """By the words of [62]."""
+    for name, row in rows.items():
+        if one[name] is not None:
+            places = sorted([row.index(one[name]), row.index(other[name])])
+            if not places[0] <= row.index(third[name]) <= places[1]:
+                return False
+    return True
+
+
+def are_neighbours(rows, firm, one, other):
+    """By the words of [63]."""
+    return one != other and not any(lies_between(rows, third, one, other) for third in firm if third not in (one, other))
+
+
+def ring_between(one, other):
+    """The ring by which two pairings differ, told as a switch."""
+    unlike = {name: (one[name], other[name]) for name in one if one[name] != other[name]}
+    ring = [min(unlike), min(unlike[min(unlike)])]
+    while len(ring) < len(unlike):
+        ring.append([name for name in unlike[ring[-1]] if name != ring[-2]][0])
+    return ring
+
+
+def switches_by_trial(market, firm):
+    rows = sharing_by_trial(market)
+    found = []
+    for one, other in combinations(firm, 2):
+        if are_neighbours(rows, firm, one, other):
+            ring = ring_between(one, other)
+            found += [ring] if ring not in found else []
+    return sorted(found)
+
+
+def side_by_trial(rows, pairing, switch):
+    """By the words of [63]."""
+    row = rows[switch[0]]
+    mate, second, last = (row.index(name) for name in (pairing[switch[0]], switch[1], switch[-1]))
+    beyond = mate < second if second < last else mate > second
+    return 0 if mate == second or beyond else 1
+
+
+def check_no_firm(case, *functions):
+    """NoFirm comes behind BadMarket, ahead of all other errors, with a new list each time."""
+    check_markets(case, *functions)
+    for market in [notice_o().market()] + some_with_odd_ring(random.Random(162), 8, [4, 5, 6]):
+        for function in functions:
+            others = [None] * (len(inspect.signature(function).parameters) - 1)
+            ring = refused(case, NoFirm, function, market, *others).ring
+            case.assertEqual(odd_rings(market)[0], ring)
+            case.assertIsInstance(ring, list)
+            ring.append("x")
+            case.assertEqual(odd_rings(market)[0], refused(case, NoFirm, function, market, *others).ring)
+
+
+def check_not_firm(case, asked, firm):
+    """Each object that is no firm pairing is refused with the very object, also such as are nearly one."""
+    one = firm[0]
+    first = min(one)
+    wrong = [dict.fromkeys(one, first), {**one, first: first}, {**one, "zed": None}, list(one.items()), {}, {first: one[first]},
+             {name: [mate] for name, mate in one.items()}, dict.fromkeys(one)]
+    for thing in any_objects() + wrong:
+        if thing not in firm:
+            case.assertIs(thing, refused(case, NotFirm, asked, thing).pairing)

@@ -4,11 +4,11 @@ import random
 import time
 import unittest
 
-from examples import (any_objects, ascends, check_anew, check_things, crowd, market_n, notice_o, notice_s, refused, turned_dict)
-from sharetrials import (all_small, blocks, firm_by_trial, mates_in_order, random_market, sharing_by_trial, some_markets,
-                         some_with_odd_ring, two_sides)
+from examples import ascends, check_anew, check_things, crowd, market_n, notice_s, refused, turned_dict
+from sharetrials import (all_small, blocks, check_no_firm, check_not_firm, firm_by_trial, mates_in_order, random_market,
+                         sharing_by_trial, some_markets, two_sides, with_several)
 
-from swaphouse.errors import BadMarket, BadNumber, NoFirm, NotFirm
+from swaphouse.errors import BadNumber, NoFirm
 from swaphouse.firmness import share_fault
 from swaphouse.firms import firm_at, firm_number, firm_pairings
 from swaphouse.markets import Market
@@ -16,15 +16,6 @@ from swaphouse.parties import firm_pairing, odd_rings
 
 FIRST = {"ann": "bo", "bo": "ann", "cy": "dan", "dan": "cy"}
 SECOND = {"ann": "dan", "bo": "cy", "cy": "bo", "dan": "ann"}
-OF_MARKET = [firm_pairings, lambda market: firm_at(market, None), lambda market: firm_number(market, None)]
-
-
-def with_several(chance, many):
-    """So many markets of six people with two firm pairings at least."""
-    found = []
-    while len(found) < many:
-        found += [market for market in some_markets(chance, 50, [6]) if len(firm_by_trial(market)) > 1]
-    return found[:many]
 
 
 class TestFirms(unittest.TestCase):
@@ -70,26 +61,13 @@ class TestFirms(unittest.TestCase):
         self.assertEqual([{"a": "b", "b": "a"}], firm_pairings(Market(["b", "a"], {"b": ["a"], "a": ["b"]})))
 
     def test_no_firm(self):
-        markets = [notice_o().market()] + some_with_odd_ring(random.Random(162), 20, [4, 5, 6])
-        for market in markets:
-            for function in OF_MARKET:
-                ring = refused(self, NoFirm, function, market).ring
-                self.assertEqual(odd_rings(market)[0], ring)
-                self.assertIsInstance(ring, list)
-                ring.append("x")
-                self.assertEqual(odd_rings(market)[0], refused(self, NoFirm, function, market).ring)
+        check_no_firm(self, firm_pairings, firm_at, firm_number)
 
     def test_wrong(self):
-        for function in OF_MARKET:
-            check_things(self, BadMarket, function, lambda thing: isinstance(thing, Market))
         market = notice_s().market()
         check_things(self, BadNumber, lambda thing: firm_at(market, thing),
                      lambda thing: isinstance(thing, int) and not isinstance(thing, bool) and thing in (0, 1))
-        alone = dict.fromkeys(FIRST)
-        wrong = [alone, {**FIRST, "ann": "dan"}, {**alone, "ann": "bo", "bo": "ann"}, {**FIRST, "zed": None}, list(FIRST.items()),
-                 {name: [mate] for name, mate in FIRST.items()}, {**alone, "ann": "cy", "cy": "ann"}]
-        for thing in any_objects() + wrong:
-            self.assertIs(thing, refused(self, NotFirm, firm_number, market, thing).pairing)
+        check_not_firm(self, lambda thing: firm_number(market, thing), [FIRST, SECOND])
 
     def test_told_anew(self):
         market = notice_s().market()

@@ -55,6 +55,10 @@ def at_module_level(tree):
     return names
 
 
+def imported(tree):
+    return [one.name for node in nodes(tree, ast.ImportFrom) for one in node.names]
+
+
 def without_docstrings(tree):
     """The strings of a file that are no docstrings."""
     docs = [node.body[0].value for node in nodes(tree, ast.Module, ast.ClassDef, ast.FunctionDef)
@@ -132,11 +136,13 @@ class TestLanguage(unittest.TestCase):
                 self.assertIn(node, tree.body)
 
     def test_bindings(self):
-        """L15: nothing in a function is called as a class, an import, a function of the file, or a builtin."""
+        """L15: nothing in a function is called as a class, an import or a builtin, no local one as a function of the file."""
         for name, tree in self.each():
-            barred = at_module_level(tree) + dir(builtins)
+            barred = imported(tree) + [node.name for node in nodes(tree, ast.ClassDef)] + dir(builtins)
             for function in functions(tree):
                 self.assertEqual([], [one for one in bound(function) if one in barred and one != "_"], function.name)
+                stored = [node.id for node in nodes(function, ast.Name) if not isinstance(node.ctx, ast.Load)]
+                self.assertEqual([], [one for one in stored if one in at_module_level(tree)], function.name)
             for one in at_module_level(tree):
                 self.assertNotIn(one, dir(builtins))
 
