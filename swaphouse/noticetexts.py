@@ -114,6 +114,12 @@ class NoticeReader:
             return False
         return self._rule != "pairs" or not self._people or len(self._needs) > 0
 
+    def rule(self):
+        return self._rule
+
+    def people(self):
+        return list(self._people)
+
     def notice(self):
         return Notice(self._rule, Market(self._people, self._wishes), self._needs)
 

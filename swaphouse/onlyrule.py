@@ -1,21 +1,13 @@
 """The only rule: what is wrong with any other one, on small markets."""
 
-from swaphouse.alike import Steps
-from swaphouse.errors import BadPeople, NoRule, SwapError
+from swaphouse.errors import BadPeople, NoRule
 from swaphouse.given import is_list, is_one_of, is_row, is_row_of
 from swaphouse.likes import is_allotment, is_better
 from swaphouse.markets import Market
 from swaphouse.names import people_fault
-from swaphouse.notices import Notice
+from swaphouse.nofunctions import is_no_function
 
 MOST = 3
-
-
-def is_no_function(thing):
-    """Whether an object is one of the kinds that are no functions."""
-    if thing is None or isinstance(thing, (int, str, list, tuple, dict)):
-        return True
-    return isinstance(thing, (Market, Notice, Steps, SwapError))
 
 
 def check_rule(rule, people):

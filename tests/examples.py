@@ -8,6 +8,7 @@ from swaphouse.alike import Steps
 from swaphouse.errors import BadMarket, BadRow, BadText, NoPerson, SwapError
 from swaphouse.markets import Market
 from swaphouse.notices import Notice
+from swaphouse.sessions import Session
 
 NAMES_N = ["ann", "bo", "cy", "dan", "eve", "fay"]
 WISHES_N = {"ann": ["cy", "bo"], "bo": ["ann", "cy"], "cy": ["bo"], "dan": ["ann", "eve"], "eve": ["dan"],
@@ -56,7 +57,7 @@ def any_objects():
              {("a", "b"): "a"}, {"a": None}, {"a": {}}, {"a": True, "b": False}, {"a": ["b"]}, {"a": [[]]}, {"a": len},
              {"ann": ["bo"]}, {"ann": "bo"}, {"a": [0]}, {"a": deep(90)}]
     own = [Market([], {}), Market(["a"], {}), Market(["a", "b"], {}), Steps([], {}), Steps(["a"], {}),
-           Notice("rings", Market(["a"], {}), []), SwapError(), BadRow(0), BadText(1, 2)]
+           Notice("rings", Market(["a"], {}), []), Session("pairs"), SwapError(), BadRow(0), BadText(1, 2)]
     functions = [len, any_objects, lambda thing: thing, Market(["a"], {}).people]
     told = [("gets", {}), ("with", []), ("gets", []), ["gets", {"a": "b"}], ("with", [("a", "b")]), ("rings", []),
             ("blocks", []), ["rings", [["a"]]], ("blocks", [("a", [], [])]), ("form", Market(["a"], {})), deep(95),

@@ -51,11 +51,23 @@ FUNCTIONS = {
               "odd_change(market, person)"],
     "otherrows": ["rerowed(market, person, row)", "odd_by_row(market, person, row)", "raised(market, person, other)",
                   "raising(market, person, other)"],
+    "audits": ["result_for(notice)", "paper_for(notice)", "audit(notice_text, result_text, paper_text)"],
+    "refusals": ["refusal(notice, result)", "is_refusal(notice, result, thing)"],
+    "whynot": ["why_not(market, person, other)", "why_left(market, needs, person)",
+               "why_not_share(market, pairing, person, other)"],
+    "sessiontexts": ["write_session(session)", "read_session(text)"],
+    "known": ["known_by(people, papers)", "fitting(people, known)", "turn(people, known)"],
+    "sure": ["sure_rings(people, known)", "sure_things(people, known)", "two_worlds(people, known)",
+             "are_two_worlds(people, known, thing)"],
+    "asking": ["asked(market, asker)", "firm_asker(people, told)"],
 }
 CLASSES = {
     "markets": ("Market(people, wishes)", ["people()", "wishes()", "wants(person)", "__eq__(other)"]),
     "notices": ("Notice(rule, market, needs)", ["rule()", "market()", "needs()", "__eq__(other)"]),
     "alike": ("Steps(people, wishes)", ["people()", "wishes()", "__eq__(other)"]),
+    "sessions": ("Session(rule)", ["rule()", "now()", "needs()", "notice()", "watched()", "do(deed)", "is_question(thing)",
+                                   "answer(question)", "result()", "would(deed)", "count()", "deeds()", "undo()", "again()",
+                                   "at(number)", "copy()", "trial(work)", "__eq__(other)"]),
 }
 
 

@@ -24,7 +24,7 @@ DUNDERS = ["__init__", "__eq__"]
 ODD_STARTS = "_wall _pe_ _dcw_ _enum_ _cm_ _twin_re_ _lay_ _law_ _stub_ _sre _WallAttr".split()
 STATEMENTS = (ast.FunctionDef, ast.ClassDef, ast.Import, ast.ImportFrom, ast.Assign, ast.Expr)
 BARRED = (ast.AsyncFunctionDef, ast.AsyncFor, ast.AsyncWith, ast.Await, ast.Global, ast.Yield, ast.YieldFrom, ast.Div,
-          ast.GeneratorExp, ast.Try, ast.With, ast.Match, ast.Nonlocal, ast.NamedExpr, ast.JoinedStr, ast.SetComp)
+          ast.GeneratorExp, ast.With, ast.Match, ast.Nonlocal, ast.NamedExpr, ast.JoinedStr, ast.SetComp)
 
 
 def nodes(tree, *kinds):
@@ -188,6 +188,16 @@ class TestLanguage(unittest.TestCase):
             for node in nodes(tree, ast.Compare):
                 if any(isinstance(sign, (ast.Is, ast.IsNot)) for sign in node.ops):
                     self.assertTrue(all(isinstance(part, ast.Constant) for part in node.comparators))
+
+    def test_finally(self):
+        """L6, L19: nothing is caught; what stands behind finally are names told anew to attributes."""
+        for name, tree in self.each():
+            for node in nodes(tree, ast.Try):
+                self.assertEqual(([], []), (node.handlers, node.orelse))
+                for row in node.finalbody:
+                    self.assertIsInstance(row, ast.Assign)
+                    self.assertIsInstance(row.value, ast.Name)
+                    self.assertIsInstance(row.targets[0], ast.Attribute)
 
     def test_calls(self):
         """L8, L22, L25: builtins and methods that are allowed."""
