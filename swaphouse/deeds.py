@@ -35,8 +35,7 @@ def check_of_person(notice, deed):
     word = deed[0]
     name = deed[1]
     people = notice.market().people()
-    is_there = isinstance(name, str) and name in people
-    if is_there == (word == "come") or not is_name(name):
+    if (name in people) == (word == "come") or not is_name(name):
         raise BadName(name)
     if word == "come" or word == "want":
         wrong = row_fault(deed[2], name, people)

@@ -60,8 +60,7 @@ class RingsJudge:
 
     def last_fault(self):
         """What is wrong behind all lines."""
-        there = {**self._above, **{name: True for name in self._names}}
-        return "lacks" if len(there) < len(self._rows) else None
+        return "lacks" if len(self._above) + len(self._names) < len(self._rows) else None
 
 
 class SharesJudge:

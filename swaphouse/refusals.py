@@ -8,7 +8,7 @@ from swaphouse.pairings import near_of, pairing_fault
 from swaphouse.pointing import all_rings, rounds_by
 from swaphouse.resulttexts import is_result
 from swaphouse.rightresults import gets_told, mates_told
-from swaphouse.sharing import may_have, own_if_alone, pairs_leaving, sharing_rows, would_leave
+from swaphouse.sharing import own_if_alone, pairs_leaving, sharing_rows, would_leave
 from swaphouse.tables import goes_on, odd_rings_of, settled
 from swaphouse.taking import Taking
 
@@ -111,8 +111,8 @@ class SharesCase:
     def __init__(self, notice, result):
         self._rows = sharing_rows(notice.market())
         self._mates = mates_told(self._rows, result)
-        tied = {one: other if may_have(self._rows, one, other) else None for one, other in self._mates.items()}
-        self._has = own_if_alone(tied)
+        # Whoever has one with whom it may not share likes that less than being alone, so it counts as alone.
+        self._has = own_if_alone(self._mates)
 
     def _is_right(self):
         if first_untied(self._rows, self._mates) is not None:

@@ -2,10 +2,10 @@
 
 from swaphouse.audits import result_for
 from swaphouse.deeds import check_deed, kept_deed, notice_behind, watched_behind
-from swaphouse.errors import BadQuestion, BadRule, BadSession, InUse, NoCount, WouldChange
-from swaphouse.given import is_number, is_one_of
+from swaphouse.errors import BadQuestion, BadSession, InUse, NoCount, WouldChange
+from swaphouse.given import is_number
 from swaphouse.markets import Market
-from swaphouse.notices import RULES, Notice
+from swaphouse.notices import Notice
 from swaphouse.questions import answer_to, is_question_of
 from swaphouse.whychanged import why_changed
 
@@ -53,8 +53,6 @@ class Session:
     """A market that is edited by deeds, which can be taken back."""
 
     def __init__(self, rule):
-        if not is_one_of(rule, RULES):
-            raise BadRule(rule)
         # All deeds, those too that were taken back, and the states ahead of and behind each; no list is changed.
         self._states = [State(Notice(rule, Market([], {}), []), [])]
         self._deeds = []

@@ -108,7 +108,8 @@ class TestKnown(unittest.TestCase):
             check_indexes(self, BadPeople, lambda thing: function(thing, None), PEOPLE_CASES)
         names = ["cy", "ann", "bo"]
         cases = [([[["ann"]], [["zed"]]], 1), ([[["bo", "ann"]]], 0), ([[[]]], 0), ([[["ann"]], [["ann"], ["ann", "bo"]]], 1), ([None], 0),
-                 ([[["ann", "ann"]]], 0), ([[["ann"], "bo"]], 0), ([["ann"]], 0), ([[], [[["ann"]]]], 1), ([[["ann", 0]]], 0), ([{}], 0)]
+                 ([[["ann", "ann"]]], 0), ([[["ann"], "bo"]], 0), ([["ann"]], 0), ([[], [[["ann"]]]], 1), ([[["ann", 0]]], 0), ([{}], 0),
+                 ([[0]], 0), ([[], [None]], 1), ([[{"ann": "ann"}]], 0), ([[["ann"], True]], 0)]
         check_indexes(self, BadPapers, lambda thing: known_by(names, thing), cases)
         for function in (fitting, turn):
             for thing in any_objects() + BAD_KNOWN:

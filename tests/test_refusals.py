@@ -154,6 +154,13 @@ class TestRefusals(unittest.TestCase):
         for notice, result in results:
             for thing in any_objects() + wrong:
                 self.assertFalse(is_refusal(notice, result, thing))
+                for word in ("tie", "leave", "serve", "ring"):
+                    for told in ((word, thing, "bo"), (word, "ann", thing), (word, thing, thing), (thing, ["ann", "cy", "bo"]), (thing, "ann", "eve")):
+                        if not (isinstance(thing, str) and thing in ("ring", "ann", "bo")):
+                            self.assertFalse(is_refusal(notice, result, told), told)
+        pairing = dict(refusal(notice_p(), ("gets", {}))[1])
+        self.assertTrue(is_refusal(notice_p(), ("gets", {}), ("serve", pairing)))
+        self.assertFalse(is_refusal(notice_p(), ("gets", {}), ("ring", pairing)))
 
     def test_wrong(self):
         for function in (lambda thing: refusal(thing, None), lambda thing: is_refusal(thing, None, None)):

@@ -140,6 +140,31 @@ class TestSessions(unittest.TestCase):
         words = {"done", "BadDeed", "BadName", "BadRow", "BadPlace", "BadQuestion", "IsWatched", "NotWatched", "InUse", "WouldChange"}
         self.assertEqual({(rule, word) for rule in RULES for word in words}, seen)
 
+    def test_why(self):
+        """Each question that is answered otherwise, from True and from False, by each rule."""
+        chance = random.Random(245)
+        seen = {}
+        while len(seen) < 17 or min(seen.values()) < 4:
+            plain = Plain(chance.choice(RULES))
+            for name in chance.sample("abcd", chance.randint(3, 4)):
+                plain = plain.behind(("come", name, []))
+            for name in plain.people:
+                others = [other for other in plain.people if other != name]
+                plain = plain.behind(("want", name, chance.sample(others, chance.randint(1, len(others)))))
+            plain = plain.behind(("hold", chance.choice(plain.questions())))
+            session = session_by(plain)
+            for _ in range(6):
+                deed = random_deed(chance, plain, 0)
+                if plain.outcome(deed)[0] == "WouldChange":
+                    error = refused(self, WouldChange, session.do, deed)
+                    self.assertEqual(plain.watched[0][0], error.question)
+                    self.check_why(plain, plain.behind(deed), error)
+                    answer = plain.answer(error.question)
+                    key = (plain.rule, error.question[0], answer if isinstance(answer, bool) else answer is None)
+                    seen[key] = seen.get(key, 0) + 1
+        told = {("pairs", "served", True), ("pairs", "served", False), ("shares", "firm", True), ("shares", "firm", False)}
+        self.assertLessEqual(told, set(seen))
+
     def test_example(self):
         session = session_n()
         self.assertEqual(market_n(), session.now())
